@@ -1,0 +1,1 @@
+"""Sure parts: what every web of tables has in it."""
