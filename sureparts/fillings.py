@@ -149,11 +149,12 @@ def drawn_filling(web, row, many):
     if not is_rest(many):
         raise InvalidMany(many)
     sizes = arrow_sizes(web, row, row)
-    rests = _drawn_rests(sum([tall * wide for tall, wide in sizes]), many)
+    rests = drawn_rests(sum([tall * wide for tall, wide in sizes]), many)
     return Filling(web, row, told_tables(sizes, rests))
 
 
-def _drawn_rests(length, many):
+def drawn_rests(length, many):
+    """So many rests, drawn by many."""
     rests = []
     drawn = many
     for count in range(1, length + 1):

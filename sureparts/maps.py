@@ -4,6 +4,7 @@ from sureparts.basics import PRIME
 from sureparts.errors import InvalidMap, TooMany
 from sureparts.fillings import are_tables_of, check_filling, check_other
 from sureparts.reduced import kernel, rank_of_rows
+from sureparts.rows import form
 from sureparts.tables import MOST_SIZE, Table, times, told_tables, unit
 
 
@@ -74,22 +75,37 @@ def _checked_rows(filling, other):
     """The rows of the table of both, and how wide they are; TooMany if no Table can have them."""
     check_filling(filling)
     check_other(filling, other)
-    tall, wide = _both_size(filling, other)
-    if tall > MOST_SIZE or wide > MOST_SIZE:
-        raise TooMany("size", MOST_SIZE)
-    return both_rows(filling, other), wide
-
-
-def _both_size(filling, other):
     row, late = filling.row(), other.row()
-    tall = sum([row[tail] * late[head] for tail, head in filling.web().arrows()])
-    return tall, sum([size * more for size, more in zip(row, late)])
+    check_both_size(filling.web(), row, late)
+    return both_rows(filling, other), _both_wide(row, late)
+
+
+def check_both_size(web, row, other):
+    """Raise TooMany unless a Table can be the table of both of a filling of row and one of other."""
+    tall = sum([row[tail] * other[head] for tail, head in web.arrows()])
+    if tall > MOST_SIZE or _both_wide(row, other) > MOST_SIZE:
+        raise TooMany("size", MOST_SIZE)
+
+
+def _both_wide(row, other):
+    return sum([size * more for size, more in zip(row, other)])
+
+
+def any_lack(filling, other):
+    """The lack of filling with other, also where no Table can be their table of both."""
+    rows = both_rows(filling, other)
+    return len(rows) - rank_of_rows(rows, _both_wide(filling.row(), other.row()))
+
+
+def any_maps(filling, other):
+    """As how many maps all from filling to other are told, also where no Table can be their table of both."""
+    return form(filling.web(), filling.row(), other.row()) + any_lack(filling, other)
 
 
 def both_rows(filling, other):
     """The rows of the table of both, also where no Table can have as many."""
     row, late = filling.row(), other.row()
-    wide = _both_size(filling, other)[1]
+    wide = _both_wide(row, late)
     starts = _block_starts(row, late)
     rows = []
     for at, (tail, head) in enumerate(filling.web().arrows()):

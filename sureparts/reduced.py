@@ -19,7 +19,7 @@ def stairs(rows, wide):
             continue
         share = inverse(left[at][column])
         step = [rest * share % PRIME for rest in left[at]]
-        left = [_cleared(row, step, column) for row in left[:at] + left[at + 1:]]
+        left = [cleared(row, step, column) for row in left[:at] + left[at + 1:]]
         steps.append(step)
         rising.append(column)
     return steps, rising, left
@@ -32,7 +32,7 @@ def _first_with(rows, column):
     return None
 
 
-def _cleared(row, step, head):
+def cleared(row, step, head):
     """The row, less so often the step, with 1 at its head, that 0 stands there."""
     often = row[head]
     if often == 0:
@@ -47,7 +47,7 @@ def _all_cleared(steps, rising):
         row = steps[at]
         # The later steps are cleared already: taking one off leaves 0 at the heads of all others.
         for late, head in done:
-            row = _cleared(row, late, head)
+            row = cleared(row, late, head)
         done.append((row, rising[at]))
     return [row for row, _ in done[::-1]]
 

@@ -31,6 +31,16 @@ def check_sizes(sizes):
         raise TooMany("sum", MOST_SUM)
 
 
+def is_at_most(row, whole):
+    """Whether each size of the row is at most that of the whole one."""
+    return all([size <= most for size, most in zip(row, whole)])
+
+
+def less(whole, row):
+    """The whole row less the row, place by place."""
+    return [most - size for most, size in zip(whole, row)]
+
+
 def form(web, row, other):
     """The form of row and other, in this sequence."""
     check_web(web)

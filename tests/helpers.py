@@ -1,6 +1,7 @@
 """What several test files share: wrong values, drawn things, and how an error is looked at."""
 
 import copy
+import itertools
 import random
 import unittest
 
@@ -104,3 +105,70 @@ def pairs(seed, webs=None, most=2, often=4):
         for _ in range(often):
             yield (web, source, drawn(source, web, drawn_row(source, web, most)),
                    drawn(source, web, drawn_row(source, web, most)))
+
+
+def drawn_web(source, most=4, arrows=5):
+    """A web of a few places, its arrows drawn along a drawn sequence of the places."""
+    places = source.randint(1, most)
+    order = list(range(places))
+    source.shuffle(order)
+    told = []
+    for _ in range(source.randint(0, arrows) if places > 1 else 0):
+        tail, head = sorted(source.sample(range(places), 2))
+        told.append((order[tail], order[head]))
+    return Web(places, told)
+
+
+def rows_at(seed, often, most=3, arrows=5, sizes=2):
+    """Drawn webs, each with a drawn row: (web, source, row)."""
+    source = random.Random(seed)
+    for _ in range(often):
+        web = drawn_web(source, most, arrows)
+        yield web, source, drawn_row(source, web, sizes)
+
+
+def below(row):
+    """All rows at most the row, lists, sorted."""
+    return [list(part) for part in itertools.product(*[range(size + 1) for size in row])]
+
+
+def added(row, other):
+    return [size + more for size, more in zip(row, other)]
+
+
+def taken_off(row, other):
+    return [size - less for size, less in zip(row, other)]
+
+
+NO_WEBS = STRANGE + [3, [], (), (2, [(0, 1)]), [(0, 1)], Table(0, 0, [])]
+
+
+def no_rows(web):
+    """Values that are no rows of the web, a web with an arrow at least or with two places."""
+    zeros = [0] * web.places
+    wrong = [zeros[1:], zeros + [0], [7] + zeros[1:], zeros[1:] + [-1], [True] + zeros[1:], zeros[1:] + [False],
+             [None] + zeros[1:], [[0]] + zeros[1:], ["0"] + zeros[1:], [10 ** 30] + zeros[1:], "0" * web.places,
+             {place: 0 for place in range(web.places)}]
+    return STRANGE + [0, 1, [], (), web] + wrong
+
+
+JUNK = [None, True, False, 0, 1, -1, "", "x", b"", [], (), {}, [None], ((),), [[0]], object(), {0: 0}, [True], "bar"]
+
+
+def otherwise(paper):
+    """Values that are no papers: the paper, a tuple of a word and more, with one part left out, more, or junk."""
+    yield from JUNK
+    yield from STRANGE
+    yield list(paper)
+    yield paper[:-1]
+    yield paper[1:]
+    yield paper + (None,)
+    yield paper + (None, None)
+    yield paper + paper[-1:]
+    yield (paper,)
+    yield [paper]
+    for at in range(len(paper)):
+        for junk in [junk for junk in JUNK if at > 0 or junk != paper[0]]:
+            yield paper[:at] + (junk,) + paper[at + 1:]
+        yield paper[:at] + ((paper[at],),) + paper[at + 1:]
+        yield paper[:at] + ([paper[at]],) + paper[at + 1:]

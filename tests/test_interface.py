@@ -17,6 +17,23 @@ FUNCTIONS = {
                  "drawn_filling web row many"],
     "maps": ["both_table filling other", "maps_many filling other", "lack filling other", "all_maps filling other",
              "is_map filling other value", "unit_map filling", "map_behind filling other across third late"],
+    "parts": ["is_part filling value", "part_row filling part", "part_filling filling part",
+              "rest_filling filling part", "least_part filling tables", "parts_sum filling part other",
+              "parts_meet filling part other", "made_part filling other across", "lost_part filling other across"],
+    "joins": ["is_joining filling other value", "joined filling other joining", "laid_out filling other tables",
+              "join_paper filling other joining", "is_join_paper filling other joining value"],
+    "sure": ["sure_parts web row", "is_sure web row whole", "least_lack web row other", "least_maps web row other"],
+    "lacks": ["lack_paper web row other", "is_lack_paper web row other value", "sure_paper web row whole",
+              "is_sure_paper web row whole value"],
+    "unsplit": ["is_unsplit web row", "unsplit_paper web row", "is_unsplit_paper web row value"],
+    "falling": ["falls web row", "are_apart web row other", "falls_paper web row", "is_falls_paper web row value",
+                "is_brick filling"],
+    "weights": ["weighs web weight row", "is_steady web weight row", "weight_ways web weight",
+                "square filling weight numbers", "weight_paper web weight row",
+                "is_weight_paper web weight row value"],
+    "steps": ["slope web weight row", "is_even web weight row", "is_stable web weight row", "steepest web weight row",
+              "first_step web weight row", "steps web weight row", "corners web weight row",
+              "is_steps web weight row value"],
 }
 
 # Of each class: its parameters, its properties, its methods.
@@ -38,7 +55,7 @@ class Interface(unittest.TestCase):
             for line in told:
                 name, *wanted = line.split()
                 with self.subTest(name=name):
-                    action = getattr(file, name)
+                    action = vars(file)[name]
                     self.assertTrue(inspect.isfunction(action))
                     self.assertEqual(action.__module__, file.__name__)
                     self.assertEqual(parameters(action), wanted)
