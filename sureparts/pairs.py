@@ -17,6 +17,17 @@ def lacks_nothing(filling, other):
     return form(filling.web(), filling.row(), other.row()) >= 0 and any_lack(filling, other) == 0
 
 
+def first_drawn(web, row, is_wished):
+    """The first drawn filling of the row of which the function is_wished tells True."""
+    many = 0
+    # What is wished holds of all drawn ones but those for which some polynomials of their rests are 0: few are.
+    while True:
+        filling = drawn_filling(web, row, many % PRIME)
+        if is_wished(filling):
+            return filling
+        many += 1
+
+
 def least_pair(web, row, other, least):
     """A filling of row and one of other, the first one lacking just the least lack with the second one."""
     many = 0

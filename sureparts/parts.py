@@ -28,7 +28,7 @@ def _are_wide(row, value):
 
 
 def _leads_into(table, room, other):
-    return not any([any(_counted(line, other)) for line in _led(table, room).rows()])
+    return not any([any(counted(line, other)) for line in _led(table, room).rows()])
 
 
 def _led(table, room):
@@ -36,7 +36,7 @@ def _led(table, room):
     return times(room, turned(table))
 
 
-def _counted(line, room):
+def counted(line, room):
     """The list, changed by lists of the room to one with noughts at all heads."""
     for row, head in zip(room.rows(), heads(room)):
         line = cleared(line, row, head)
@@ -65,10 +65,10 @@ def part_filling(filling, part):
 
 def _part_table(table, room, other):
     # The room is reduced: what stands at its heads tells by which rests its rows are multiplied.
-    return _picked(_led(table, room).rows(), heads(other))
+    return picked(_led(table, room).rows(), heads(other))
 
 
-def _picked(lines, columns):
+def picked(lines, columns):
     """The table whose columns are the lists, each with the rests at these columns alone."""
     return Table(len(columns), len(lines), [[line[column] for line in lines] for column in columns])
 
@@ -85,11 +85,11 @@ def rest_filling(filling, part):
 
 def _rest_table(table, room, other):
     columns = turned(table).rows()
-    lines = [_counted(columns[column], other) for column in _free(room)]
-    return _picked(lines, _free(other))
+    lines = [counted(columns[column], other) for column in free_columns(room)]
+    return picked(lines, free_columns(other))
 
 
-def _free(room):
+def free_columns(room):
     """The columns of the room that are no heads."""
     taken = heads(room)
     return [column for column in range(room.wide) if column not in taken]

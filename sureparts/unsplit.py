@@ -1,10 +1,8 @@
 """Unsplit rows: those with a filling that has no maps to itself but the unit map's multiples."""
 
-from sureparts.basics import PRIME
 from sureparts.errors import IsNought
-from sureparts.fillings import drawn_filling
 from sureparts.maps import any_maps, check_both_size
-from sureparts.pairs import is_filling_of, shown_bar, shows_sure
+from sureparts.pairs import first_drawn, is_filling_of, shown_bar, shows_sure
 from sureparts.rows import check_row, form
 from sureparts.sure import sure_parts
 from sureparts.webs import check_web
@@ -44,18 +42,8 @@ def unsplit_paper(web, row):
     part = _splitting(web, row)
     check_both_size(web, row, row)
     if part is None:
-        return ("brick", _drawn_brick(web, row))
+        return ("brick", first_drawn(web, row, has_one_map))
     return shown_bar(web, part, row)
-
-
-def _drawn_brick(web, row):
-    many = 0
-    # All drawn fillings are bricks but those for which some polynomials of their rests are 0: few are.
-    while True:
-        filling = drawn_filling(web, row, many % PRIME)
-        if has_one_map(filling):
-            return filling
-        many += 1
 
 
 def is_unsplit_paper(web, row, value):

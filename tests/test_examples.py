@@ -6,7 +6,8 @@ import unittest
 
 FOLDER = pathlib.Path(__file__).parent / "examples"
 STAGES = {"stage_1a": 9, "stage_1b": 7, "stage_2a": 9, "stage_2b": 10, "stage_3a": 13, "stage_3b": 14, "stage_4a": 6,
-          "stage_4b": 11, "stage_5a": 9, "stage_5b": 10, "stage_6a": 10, "stage_6b": 7}
+          "stage_4b": 11, "stage_5a": 9, "stage_5b": 10, "stage_6a": 10, "stage_6b": 7,
+          "stage_7a": 10, "stage_7b": 11, "stage_8a": 8, "stage_8b": 4}
 
 
 class Examples(unittest.TestCase):

@@ -34,6 +34,15 @@ FUNCTIONS = {
     "steps": ["slope web weight row", "is_even web weight row", "is_stable web weight row", "steepest web weight row",
               "first_step web weight row", "steps web weight row", "corners web weight row",
               "is_steps web weight row value"],
+    "turning": ["sinks web", "sources web", "turned_at web place", "turned_row web place row", "is_full filling place",
+                "turned_at_filling filling place"],
+    "still": ["own_lack web row", "is_still web row", "is_real web row", "still_paper web row",
+              "is_still_paper web row value", "exchange filling other", "is_exchange filling other value"],
+    "flags": ["flags_web size", "flags_row size", "meeting_row size sets", "taken size sets lesser",
+              "meeting_count size sets", "lesser_count size sets lesser", "is_meeting size sets", "meetings size many",
+              "meeting_paper size sets", "is_meeting_paper size sets value"],
+    "sums": ["sum_at three sets", "is_fit three", "fit_bar three", "is_hive three value", "hive_of three",
+             "fit_paper three", "is_fit_paper three value"],
 }
 
 # Of each class: its parameters, its properties, its methods.
