@@ -14,7 +14,7 @@ def _check_rows(web, row, other):
     check_row(web, other)
 
 
-def _barring(web, row, other):
+def barring(web, row, other):
     """The first sure part of the row with the least form with the other one."""
     return min(sure_parts(web, row), key=lambda part: form(web, part, other))
 
@@ -22,7 +22,7 @@ def _barring(web, row, other):
 def lack_paper(web, row, other):
     """A lack paper ("lack", F, G, d, N, M) of row and other."""
     _check_rows(web, row, other)
-    part = _barring(web, row, other)
+    part = barring(web, row, other)
     check_both_size(web, row, other)
     filling, late = least_pair(web, row, other, -form(web, part, other))
     near, far = least_pair(web, part, less(row, part), 0)
@@ -51,7 +51,7 @@ def sure_paper(web, row, whole):
     """A sure paper: ("sure", F, G) if the row is a sure part of whole, ("bar", d, N, M) if it isn't."""
     _check_below(web, row, whole)
     rest = less(whole, row)
-    part = _barring(web, row, rest)
+    part = barring(web, row, rest)
     if form(web, part, rest) < 0:
         return shown_bar(web, part, row)
     filling, other = least_pair(web, row, rest, 0)

@@ -14,11 +14,16 @@ MOST_WEIGHT = 6
 MOST_WAYS = 400
 
 
+def is_weight(web, value):
+    """Whether any value is a weight of the web."""
+    if not isinstance(value, (list, tuple)) or len(value) != web.places:
+        return False
+    return all([is_integer(number) and abs(number) <= MOST_WEIGHT for number in value])
+
+
 def check_weight(web, weight):
     """Raise InvalidWeight unless it is a weight of the web."""
-    if not isinstance(weight, (list, tuple)) or len(weight) != web.places:
-        raise InvalidWeight(weight)
-    if not all([is_integer(number) and abs(number) <= MOST_WEIGHT for number in weight]):
+    if not is_weight(web, weight):
         raise InvalidWeight(weight)
 
 

@@ -43,6 +43,11 @@ FUNCTIONS = {
               "meeting_paper size sets", "is_meeting_paper size sets value"],
     "sums": ["sum_at three sets", "is_fit three", "fit_bar three", "is_hive three value", "hive_of three",
              "fit_paper three", "is_fit_paper three value"],
+    "written": ["is_of_sort sort value", "written sort value", "read sort text"],
+    "claims": ["words", "is_claim value", "contrary claim", "is_true claim", "paper_of claim",
+               "is_paper_of claim value"],
+    "commands": ["is_name value", "is_command value", "is_deed value"],
+    "desk": ["tried desk action"],
 }
 
 # Of each class: its parameters, its properties, its methods.
@@ -50,6 +55,11 @@ CLASSES = {
     ("tables", "Table"): ("tall wide rows", ["tall", "wide"], ["rows", "__eq__ other"]),
     ("webs", "Web"): ("places arrows", ["places", "many"], ["arrows", "ways place other", "__eq__ other"]),
     ("fillings", "Filling"): ("web row tables", [], ["web", "row", "tables", "along way", "__eq__ other"]),
+    ("desk", "Desk"): ("", ["names", "labels"], ["__len__", "__getitem__ at", "__contains__ x", "claim_of label",
+                                                "do command", "__call__ command", "do_all commands",
+                                                "attempt commands", "attach label paper", "fits label", "lines",
+                                                "copy"]),
+    ("desk", "Trial"): ("desk", [], ["__enter__", "__exit__ kind value trace"]),
 }
 
 
@@ -68,6 +78,11 @@ class Interface(unittest.TestCase):
                     self.assertTrue(inspect.isfunction(action))
                     self.assertEqual(action.__module__, file.__name__)
                     self.assertEqual(parameters(action), wanted)
+
+    def test_class_method(self):
+        desk = importlib.import_module("sureparts.desk").Desk
+        self.assertIsInstance(vars(desk)["again"], classmethod)
+        self.assertEqual(parameters(desk.again), ["lines"])
 
     def test_classes(self):
         for (module, name), (wanted, properties, methods) in CLASSES.items():

@@ -57,7 +57,7 @@ def bound_names(tree):
             yield node.arg
         elif isinstance(node, ast.Name) and not isinstance(node.ctx, ast.Load):
             yield node.id
-        elif isinstance(node, ast.alias):
+        elif isinstance(node, (ast.alias, ast.ExceptHandler)) and node.name:
             yield node.name
 
 
