@@ -124,6 +124,7 @@ def _web_and_values(kept, told):
     return [web_of(kept.things, told[0])] + [kept.things[name].value for name in told]
 
 
-ACTIONS = {"state": _state, "states": _states, "claimed": _claimed, "names": _names, "of": _of, "show": _show,
-           "same": _same, "form": _form, "least": _least, "maps": _maps, "lack": _lack, "sure": _sure,
-           "falls": _falls, "steps": _steps}
+ACTIONS = {
+    "state": _state, "states": _states, "claimed": _claimed, "names": _names, "of": _of, "show": _show, "same": _same,
+    "form": _form, "least": _least, "maps": _maps, "lack": _lack, "sure": _sure, "falls": _falls, "steps": _steps,
+}

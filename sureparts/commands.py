@@ -83,7 +83,8 @@ def _told(kind, word):
         return _all_told(MOST_NUMBERS, [_number(part) for part in word.split(",")])
     if kind == "ARROWS":
         return [] if word == "-" else _all_told(MOST_ARROWS, [_arrow(part) for part in word.split(",")])
-    return word if kind == "WORD" or is_name(word) else None
+    # What is left are names, labels, and the words of claims, which are known by then and like names.
+    return word if is_name(word) else None
 
 
 def _count(word):

@@ -4,7 +4,7 @@ from sureparts.basics import check_rest
 from sureparts.claims import is_claim
 from sureparts.errors import InvalidArrow, InvalidClaim, InvalidEntry, IsUsed, TooMany
 from sureparts.fillings import Filling, both, drawn_filling
-from sureparts.kept import Thing, kept_now, told_claim, web_of
+from sureparts.kept import Thing, kept_now, told_claim
 from sureparts.rows import check_row
 from sureparts.tables import Table, nought
 from sureparts.webs import Web, check_place, turned_web
@@ -53,14 +53,21 @@ def _web(things, told):
 
 def _row(things, told):
     name, of, sizes = told
-    check_row(things[of].value, sizes)
-    return _with(things, name, Thing("row", of, sizes))
+    return _numbered(things, name, "row", of, sizes)
 
 
 def _weight(things, told):
     name, of, numbers = told
-    check_weight(things[of].value, numbers)
-    return _with(things, name, Thing("weight", of, numbers))
+    return _numbered(things, name, "weight", of, numbers)
+
+
+def _numbered(things, name, kind, of, numbers):
+    """The things with these numbers as a row, or as a weight, under the name."""
+    if kind == "row":
+        check_row(things[of].value, numbers)
+    else:
+        check_weight(things[of].value, numbers)
+    return _with(things, name, Thing(kind, of, numbers))
 
 
 def _filling(things, told):
@@ -99,22 +106,12 @@ def _rewoven(things, of, web, change):
     return more
 
 
-def _size(things, told):
-    name, place, size = told
-    web = web_of(things, name)
-    check_place(web, place)
-    sizes = _put(things[name].value, place, size)
-    check_row(web, sizes)
-    return _with(things, name, Thing("row", things[name].of, sizes))
-
-
-def _load(things, told):
+def _number(things, told):
+    """What a row's `size` and a weight's `load` make."""
     name, place, number = told
-    web = web_of(things, name)
-    check_place(web, place)
-    numbers = _put(things[name].value, place, number)
-    check_weight(web, numbers)
-    return _with(things, name, Thing("weight", things[name].of, numbers))
+    thing = things[name]
+    check_place(things[thing.of].value, place)
+    return _numbered(things, name, thing.kind, thing.of, _put(thing.value, place, number))
 
 
 def _put(told, at, value):
@@ -162,5 +159,7 @@ def _drop(things, told):
     return {other: things[other] for other in things if other != name}
 
 
-ACTIONS = {"web": _web, "row": _row, "weight": _weight, "filling": _filling, "arrow": _arrow, "strike": _strike,
-           "size": _size, "load": _load, "entry": _entry, "both": _both, "turn": _turn, "copy": _copy, "drop": _drop}
+ACTIONS = {
+    "web": _web, "row": _row, "weight": _weight, "filling": _filling, "arrow": _arrow, "strike": _strike,
+    "size": _number, "load": _number, "entry": _entry, "both": _both, "turn": _turn, "copy": _copy, "drop": _drop,
+}

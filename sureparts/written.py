@@ -147,7 +147,7 @@ def _parsed(text):
 def _thing(sort, plain):
     """The thing of the sort that lists, tuples and numbers tell; None if there is none."""
     if sort in ("row", "weight"):
-        return plain if isinstance(plain, list) and is_of_sort(sort, plain) else None
+        return plain if is_of_sort(sort, plain) else None
     try:
         return _built(sort, plain)
     except WebError:

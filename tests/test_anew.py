@@ -179,8 +179,9 @@ class Blocks(Case):
         self.assertEqual(self.desk["a"], [0, 1])
 
     def test_do_all_that_fails(self):
-        for commands, at, kind in ((("drop c", "drop c"), 1, UnknownName), (("undo", "redo", "redo", "redo"), 3, NothingToRedo),
-                                   (("size a 0 0", "forget p", "forget p"), 2, UnknownLabel), ((None,), 0, InvalidCommand),
+        for commands, at, kind in ((("drop c", "drop c"), 1, UnknownName), ((None,), 0, InvalidCommand),
+                                   (("undo", "redo", "redo", "redo"), 3, NothingToRedo),
+                                   (("size a 0 0", "forget p", "forget p"), 2, UnknownLabel),
                                    (("drop c", "names", ["undo"]), 2, InvalidCommand),
                                    (("undo",) * 8 + ("drop a",), 7, NothingToUndo),
                                    (("size a 0 7", "drop q"), 0, InvalidRow)):

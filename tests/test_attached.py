@@ -74,8 +74,8 @@ class Attached(Case):
     def test_it_stays(self):
         self.desk.attach("k", self.yes)
         kept = self.desk.lines()
-        for command in ("size a 0 0", "undo", "redo", "undo", "drop b", "row b w 2,1", "undo", "undo", "undo", "forget k",
-                        "claim k sure a b", "undo", "undo", "undo", "undo", "undo"):
+        for command in ("size a 0 0", "undo", "redo", "undo", "drop b", "row b w 2,1", "undo", "undo", "undo",
+                        "forget k", "claim k sure a b", "undo", "undo", "undo", "undo", "undo"):
             outcome(self.desk.do, command)
         while len(self.desk):
             self.desk.do("undo")
@@ -147,7 +147,8 @@ class Attached(Case):
         self.assertIs(self.desk.fits("x"), False)
 
     def test_gone_by_too_many_with_a_right_paper(self):
-        self.desk.do_all("web v 5 0>1", "row d v 4,2,2,2,2", "row e v 0,0,0,0,0", "claim x sure e d", "claim y sure d d")
+        self.desk.do_all("web v 5 0>1", "row d v 4,2,2,2,2", "row e v 0,0,0,0,0", "claim x sure e d",
+                         "claim y sure d d")
         web = self.desk["v"]
         paper = ("sure", nought_filling(web, [4, 2, 2, 2, 2]), nought_filling(web, [0] * 5))
         self.assertIs(is_paper_of(("sure", web, [4, 2, 2, 2, 2], [4, 2, 2, 2, 2]), paper), True)

@@ -82,7 +82,8 @@ class Kept(DeskCase):
         self.assertRaises(TypeError, iter, self.desk)
 
     def test_no_commands(self):
-        for value in STRANGE + ["undo ", " undo", "row a", "names a", "kept", 0, [], ["undo"], ("undo",), "row A w 1,1"]:
+        for value in STRANGE + ["undo ", " undo", "row a", "names a", "kept", 0, [], ["undo"], ("undo",),
+                                "row A w 1,1"]:
             self.fails(value, InvalidCommand, value=value)
 
     def test_claim_of(self):
@@ -142,7 +143,8 @@ class Making(DeskCase):
         self.answers("both h f g", "-")
         self.assertTrue(self.desk["h"] == both(self.desk["f"], self.desk["g"]))
         self.answers("of h", "w")
-        self.desk.do_all("drop z", "drop v", "drop t", "turn x w", "copy y w", "filling i y 1,0 1", "filling j x 1,1 1", "filling l w 6,0 1")
+        self.desk.do_all("drop z", "drop v", "drop t", "turn x w", "copy y w", "filling i y 1,0 1", "filling j x 1,1 1",
+                         "filling l w 6,0 1")
         self.answers("both m i f", "-")
         self.answers("of m", "y")
         self.fails("both f f f", NameTaken, name="f")
@@ -322,7 +324,8 @@ class Claims(DeskCase):
         self.answers("state k", "true")
 
     def test_gone_by_too_many(self):
-        self.desk.do_all("drop z", "drop v", "web n 5 0>1", "row c n 4,2,2,2,2", "row d n 4,3,2,2,2", "row e n 0,0,0,0,1")
+        self.desk.do_all("drop z", "drop v", "web n 5 0>1", "row c n 4,2,2,2,2", "row d n 4,3,2,2,2",
+                         "row e n 0,0,0,0,1")
         self.answers("claim x sure c d", "x gone")
         self.assertTrue(self.desk.claim_of("x") == ("sure", Web(5, [(0, 1)]), [4, 2, 2, 2, 2], [4, 3, 2, 2, 2]))
         self.answers("claim y within c d 0", "y gone")
@@ -385,11 +388,12 @@ class Telling(DeskCase):
         self.fails("of k", UnknownName, value="k")
 
     def test_show(self):
-        self.desk.do_all("drop a", "drop g", "web x 3 0>1,2>1", "web n 12 -", "filling h x 2,3,0 0", "filling i x 1,0,1 0", "weight s x 0,-1,6")
-        for name, wanted in (("w", "2 0>1,0>1"), ("v", "1 -"), ("x", "3 0>1,2>1"), ("n", "12 -"), ("b", "2,2"), ("z", "3"),
-                             ("t", "1,-1"), ("s", "0,-1,6"), ("i", "1,0,1 - -"),
-                             ("h", "2,3,0 " + "/".join(",".join(map(str, row)) for row in
-                                                       drawn_filling(self.desk["x"], [2, 3, 0], 0).tables()[0].rows()) + " -")):
+        self.desk.do_all("drop a", "drop g", "web x 3 0>1,2>1", "web n 12 -", "filling h x 2,3,0 0",
+                         "filling i x 1,0,1 0", "weight s x 0,-1,6")
+        rows = drawn_filling(self.desk["x"], [2, 3, 0], 0).tables()[0].rows()
+        told = "/".join(",".join(map(str, row)) for row in rows)
+        for name, wanted in (("w", "2 0>1,0>1"), ("v", "1 -"), ("x", "3 0>1,2>1"), ("n", "12 -"), ("b", "2,2"),
+                             ("z", "3"), ("t", "1,-1"), ("s", "0,-1,6"), ("i", "1,0,1 - -"), ("h", f"2,3,0 {told} -")):
             self.answers("show " + name, wanted)
         self.desk.do_all("entry f 0 0,0 2", "entry f 1 0,0 0")
         self.answers("show f", "1,1 2 0")
